@@ -1,0 +1,1 @@
+"""Remadeclasses: classes made anew while things of them live."""
