@@ -49,6 +49,16 @@ def is_tuple_of(value, least, most):
     return isinstance(value, tuple) and least <= len(value) <= most
 
 
+def is_whole(value):
+    """Whether it is a whole number."""
+    return isinstance(value, int) and not isinstance(value, bool)
+
+
+def is_number_below(value, many):
+    """Whether it is the number of one of so many things."""
+    return is_whole(value) and 0 <= value < many
+
+
 def is_ascending(items):
     """Whether each item is above the one ahead; they can be compared."""
     return all([low < high for low, high in zip(items, items[1:])])
@@ -111,6 +121,21 @@ def is_part(value):
 def is_row(value):
     """Whether it is a row but for the bodies of an if, which may be anything."""
     return fits(value, ROW_FORMS.get(head_of(value)))
+
+
+def is_standing(value):
+    """Whether it has the form of what a thing can be: class, number and own fields."""
+    if not is_tuple_of(value, 3, 3) or not isinstance(value[2], tuple):
+        return False
+    c, number, fields = value
+    if not is_word(c) or not is_whole(number) or number < 0:
+        return False
+    return all([is_field(field) for field in fields]) and is_ascending([n for n, _ in fields])
+
+
+def is_field(value):
+    """Whether it is an own field with its word."""
+    return is_tuple_of(value, 2, 2) and is_word(value[0]) and is_word(value[1])
 
 
 def head_of(value):
