@@ -42,6 +42,13 @@ TEST_FORMS = {
     "guest": ("word",),
     "told": ("word",),
 }
+CASE_FORMS = {
+    "make": ("word", "number"),
+    "call": ("word", "number", "word"),
+    "read": ("word", "number", "word"),
+    "hold": ("word", "number", "word"),
+    "ring": ("number", "number", "number"),
+}
 
 
 def is_tuple_of(value, least, most):
@@ -138,6 +145,21 @@ def is_field(value):
     return is_tuple_of(value, 2, 2) and is_word(value[0]) and is_word(value[1])
 
 
+def is_place(value):
+    """Whether it has the form of the place of a body."""
+    return is_tuple_of(value, 3, 3) and all([is_whole(number) for number in value])
+
+
+def is_case(value):
+    """Whether it has the form of a case: stage, deed, and the kind and word of a fault."""
+    if not is_tuple_of(value, 4, 4):
+        return False
+    stage, deed, kind, n = value
+    if not is_whole(stage) or not fits(deed, CASE_FORMS.get(head_of(deed))):
+        return False
+    return is_word(kind) and is_word(n)
+
+
 def head_of(value):
     """The text that stands first in a tuple; if there is none, the empty one."""
     if isinstance(value, tuple) and len(value) > 0 and isinstance(value[0], str):
@@ -156,6 +178,8 @@ def is_of_kind(value, kind):
     """Whether it is what a form has under this name."""
     if kind == "word":
         return is_word(value)
+    if kind == "number":
+        return is_whole(value)
     if kind == "bases":
         return is_bases(value)
     if kind == "target":

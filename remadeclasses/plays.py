@@ -2,7 +2,7 @@
 
 from remadeclasses.errors import BadDeed
 from remadeclasses.forms import head_of, is_number_below, is_whole
-from remadeclasses.running import Run, answer_of, birth_fault, hold_fault
+from remadeclasses.running import Run, answer_of
 from remadeclasses.stages import moved, states_of
 
 # How many items each form of a deed has.
@@ -81,20 +81,20 @@ class Play:
     def make(self, c, number, w):
         """Make a thing."""
         run = Run(self.present(), (c, number, ()), w, None)
-        fault = birth_fault(run)
-        if fault is not None:
-            return fault
+        answer = answer_of(run, "make", None)
+        if answer[0] == "fault":
+            return answer
         self.things.append(run.standing_now())
-        return "thing", len(self.things) - 1
+        return answer + (len(self.things) - 1,)
 
     def hold(self, i, n):
         """Hold a body of thing i."""
         run = Run(self.present(), self.things[i], None, None)
-        part = run.holdable(n)
-        if part is None:
-            return hold_fault(run, n)
-        self.holds.append((i, part))
-        return "held", len(self.holds) - 1
+        answer = answer_of(run, "hold", n)
+        if answer[0] == "fault":
+            return answer
+        self.holds.append((i, run.holdable(n)))
+        return answer + (len(self.holds) - 1,)
 
     def run(self, way, i, what, w, guest):
         """Call, read or ring thing i; guest is the number of a thing or None."""

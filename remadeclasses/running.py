@@ -105,6 +105,17 @@ class Run:
             return None
         return part
 
+    def check_hold(self, n):
+        """Refuse to hold where nothing is held under n."""
+        if self.holdable(n) is None:
+            found = n in self.fields or self.state.found(self.order, n) is not None
+            raise Fault("word" if found else "lacks", n)
+
+    def bear(self):
+        """Call what a thing that is made begins with, if it has such a part."""
+        if self.state.found(self.order, "born") is not None:
+            self.call_own("born", True)
+
     def call_found(self, row, n, knows):
         """What a call says of the part n that is found in this row of classes."""
         part = self.state.found(row, n)
@@ -169,32 +180,26 @@ class Run:
 
 
 def answer_of(run, way, what):
-    """The answer of a deed: call or read with a word, or ring with a part."""
+    """The answer of a deed; a make and a hold are told without their numbers.
+
+    call, read and hold come with a word, ring with a part; make takes nothing.
+    """
     try:
-        return "said", said_by(run, way, what)
+        return done_by(run, way, what)
     except Fault as fault:
         return "fault", fault.kind, fault.n
 
 
-def said_by(run, way, what):
-    """What is said or read if there is no fault."""
+def done_by(run, way, what):
+    """The answer of a deed if it is no fault."""
+    if way == "make":
+        run.bear()
+        return ("thing",)
+    if way == "hold":
+        run.check_hold(what)
+        return ("held",)
     if way == "read":
-        return run.read(what)
+        return "said", run.read(what)
     if way == "ring":
-        return run.begin(what, True)
-    return run.call_own(what, True)
-
-
-def birth_fault(run):
-    """The answer of a make that is a fault, None if it is none."""
-    if run.state.found(run.order, "born") is None:
-        return None
-    answer = answer_of(run, "call", "born")
-    return answer if answer[0] == "fault" else None
-
-
-def hold_fault(run, n):
-    """The answer of a hold that holds nothing under n."""
-    if run.state.found(run.order, n) is None and n not in run.fields:
-        return "fault", "lacks", n
-    return "fault", "word", n
+        return "said", run.begin(what, True)
+    return "said", run.call_own(what, True)

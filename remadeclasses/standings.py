@@ -10,14 +10,14 @@ def can_stand(script, stage, standing):
     """Whether some thing can have this standing, any value, in the stage."""
     check_stage(script, stage)
     levels = levels_of(script)
-    return is_standing(standing) and standing in levels[stage].tops
+    return is_standing(standing) and (standing,) in levels[stage].tops
 
 
 def standings(script, stage):
     """All standings that things can have in the stage."""
     check_stage(script, stage)
     levels = levels_of(script)
-    return tuple(sorted(levels[stage].tops))
+    return tuple(sorted([one[0] for one in levels[stage].tops]))
 
 
 def way_to(script, stage, standing):
@@ -27,6 +27,6 @@ def way_to(script, stage, standing):
     if not is_standing(standing):
         return None
     for entry in levels[stage].entries:
-        if entry.standing == standing:
+        if entry.standings == (standing,):
             return way_of(levels, entry)
     return None

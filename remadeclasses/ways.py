@@ -4,6 +4,8 @@ Things do not change one another, so each one's life is told on its own. A life 
 a list of entries, each come to from the one ahead of it.
 """
 
+from remadeclasses.growth import Entry
+
 
 class Life:
     """A thing of a way, while the way is told."""
@@ -71,13 +73,15 @@ class Way:
             self.deeds.append(("read", life.thing, what))
         elif way == "ring":
             self.deeds.append(("ring", life.holds[what], word, guest))
+        elif way == "hold":
+            self.deeds.append(("hold", life.thing, what))
 
     def tell_holds(self, life, entry):
         """Hold what is rung later on and can be held now."""
-        for part in self.levels[entry.stage].holdables(entry.standing):
-            if part.place in life.rung and part.place not in life.holds:
-                self.deeds.append(("hold", life.thing, part.n))
-                life.holds[part.place] = self.holds
+        for n, places in self.levels[entry.stage].holdables(entry.standings):
+            if places in life.rung and places not in life.holds:
+                self.deeds.append(("hold", life.thing, n))
+                life.holds[places] = self.holds
                 self.holds += 1
 
 
@@ -88,6 +92,15 @@ def life_of(entry):
         entries.append(entry)
         entry = entry.ahead
     return entries[::-1]
+
+
+def way_by(levels, stage, pair):
+    """A history whose last deed, done in the stage, is that of an outcome.
+
+    pair is the entry that the thing comes to ahead, None for a make, and the outcome.
+    """
+    ahead, outcome = pair
+    return way_of(levels, Entry(stage, outcome.standings, 0, ahead, outcome.deed))
 
 
 def way_of(levels, entry):

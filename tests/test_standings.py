@@ -3,6 +3,10 @@
 import unittest
 
 from acting import NEXT, S, does, klass, looks, make, script_of, value
+from crowded import (
+    CROWD, CROWDED, DOG, FULL, FULLER, HALF_CROWDED, MORE_OFFERS, SPLIT_FULL, SPLIT_FULLER, TOO_MANY, all_of, split,
+    steps_through,
+)
 from remadeclasses.errors import NoSuch, TooMany
 from remadeclasses.plays import play, standings_after
 from remadeclasses.scripts import script_error
@@ -53,7 +57,7 @@ class StandingCase(unittest.TestCase):
 
     def check_search(self, script, most, most_things=2, most_holds=1):
         """The search finds the very same."""
-        found = search(script, most, most_things, most_holds)
+        found = search(script, most, most_things, most_holds).standings()
         self.check(script, *found)
         return found
 
@@ -389,20 +393,9 @@ class AnyValue(StandingCase):
                 self.assertIs(caught.exception.value, stage)
 
 
-def steps_through(n, *words):
-    """A does that takes the own field step by step through none and these words."""
-    rows = [("if", ("has", n), (), (("put", n, words[0]), ("say", "ok")))]
-    for at in range(len(words) - 1):
-        rows.append(("if", ("is", n, words[at]), (("put", n, words[at + 1]), ("say", "ok")), ()))
-    last = rows.pop() if len(rows) == 4 else ("if", ("has", n), (), ())
-    return does("step" + n, *rows, last[:3] + ((("drop", n),),) if len(rows) == 3 else ("drop", n))
-
-
 class Most(StandingCase):
     """60 entries are not too many, 61 are."""
 
-    STEPPED = (steps_through("a", "p", "q", "r", "s"), steps_through("b", "p", "q", "r"), steps_through("c", "p", "q"))
-    OFFERS = ("man born make", "man stepa call", "man stepb call", "man stepc call")
     ASKED = (
         lambda script, stage: standings(script, stage),
         lambda script, stage: can_stand(script, stage, ("man", 0, ())),
@@ -423,69 +416,35 @@ class Most(StandingCase):
                 with self.assertRaises(NoSuch):
                     asked(script, stage)
 
-    def all_of(self, *fields):
-        """The standings of man 0 with each of these fields none or one of the words."""
-        rows = [()]
-        for n, words in fields:
-            rows = [row + more for row in rows for more in [()] + [((n, word),) for word in words]]
-        return [("man", 0, row) for row in sorted(rows)]
-
     def test_as_many_standings(self):
-        sixty = self.all_of(("a", "pqrs"), ("b", "pqr"), ("c", "pq"))
-        self.assertEqual(len(sixty), 60)
-        man = klass("man", "", *self.STEPPED)
-        script = script_of(self.OFFERS, (man,))
-        self.assertEqual(standings(script, 0), tuple(sixty))
-        for standing in sixty[::7]:
-            self.check_way(script, 0, standing)
-        more = script_of(("dog born make",) + self.OFFERS, (man, klass("dog", "")))
-        self.check_too_many(more)
+        self.assertEqual(len(CROWDED), 60)
+        self.assertEqual(standings(FULL, 0), CROWDED)
+        for standing in CROWDED[::7]:
+            self.check_way(FULL, 0, standing)
         # Without the offer nobody makes a dog.
-        self.assertEqual(standings(script_of(self.OFFERS, (man, klass("dog", ""))), 0), tuple(sixty))
+        self.check_too_many(FULLER)
 
     def test_in_some_stage(self):
-        man, dog = klass("man", "", *self.STEPPED), klass("dog", "")
-        offers = ("dog born make",) + self.OFFERS
-        self.assertEqual(len(standings(script_of(offers, (), (man,), ()), 1)), 60)
-        self.check_too_many(script_of(offers, (), (man,), (dog,)))
-        self.check_too_many(script_of(offers, (dog, man), (), ()))
-        # In stage 0 the 61st comes of a made dog, in stage 1 the dogs are led away.
-        few = script_of(offers, (dog,), (klass("dog", "", value("born", "w")),), ())
+        self.assertEqual(len(standings(script_of(MORE_OFFERS, (), (CROWD,), ()), 1)), 60)
+        for script in TOO_MANY:
+            self.check_too_many(script)
+        few = script_of(MORE_OFFERS, (DOG,), (klass("dog", "", value("born", "w")),), ())
         self.assertEqual(standings(few, 2), (("dog", 0, ()),))
 
-    HELD = ("man born make", "man one call", "man other call", "man stepa call", "man stepb call", "man stepc call")
-
-    def split(self, *stepped, one=(), last=()):
-        """A script in whose last stage each standing of man has two entries.
-
-        A man has either the own field one or other, so that only the body of the
-        other word can be held; then both fields go, and no more men are made.
-        """
-        born = does("born", ("if", ("told", "go"), (("put", "one", "x"),), (("put", "other", "x"),)))
-        return script_of(
-            ("dog born make",) + self.HELD,
-            (klass("kin", "", *stepped), klass("man", "kin", born, does("one", *one), does("other"))),
-            (("cut", "man", "one"), ("cut", "man", "other"), ("part", "man", value("born", "v"))),
-            (("clear", "man", "one"), ("clear", "man", "other")) + last,
-        )
-
     def test_entries_and_not_standings_are_counted(self):
-        stepped = (steps_through("a", "p", "q", "r", "s"), steps_through("b", "p", "q"), steps_through("c", "p"))
-        thirty = tuple(self.all_of(("a", "pqrs"), ("b", "pq"), ("c", "p")))
-        self.assertEqual(len(thirty), 30)
-        script = self.split(*stepped)
-        self.assertEqual(standings(script, 2), thirty)
-        self.assertEqual(len(standings(script, 1)), 60)
-        for standing in thirty[::5]:
-            self.check_way(script, 2, standing)
-        self.check_too_many(self.split(*stepped, last=(klass("dog", ""),)))
+        self.assertEqual(len(HALF_CROWDED), 30)
+        self.assertEqual(standings(SPLIT_FULL, 2), HALF_CROWDED)
+        self.assertEqual(len(standings(SPLIT_FULL, 1)), 60)
+        for standing in HALF_CROWDED[::5]:
+            self.check_way(SPLIT_FULL, 2, standing)
+        self.check_too_many(SPLIT_FULLER)
 
     def test_what_is_covered_is_not_counted(self):
         # By one a man loses the own field other, and then both can be held of it.
         stepped = (steps_through("a", "p", "q", "r", "s"), steps_through("b", "p"), steps_through("c", "p"))
-        twenty = tuple(self.all_of(("a", "pqrs"), ("b", "p"), ("c", "p")))
+        twenty = all_of(("a", "pqrs"), ("b", "p"), ("c", "p"))
         self.assertEqual(len(twenty), 20)
-        script = self.split(*stepped, one=(("drop", "other"),), last=(klass("dog", ""),))
+        script = split(*stepped, one=(("drop", "other"),), last=(DOG,))
         self.assertEqual(len(standings(script, 0)), 60)
         self.assertEqual(len(standings(script, 1)), 60)
         self.assertEqual(standings(script, 2), (("dog", 0, ()),) + twenty)
