@@ -67,6 +67,16 @@ class Play:
         i, part = self.holds[deed[1]]
         return self.run("ring", i, part, deed[2], deed[3])
 
+    def mark(self):
+        """What is there now, for go_back."""
+        return self.stage, tuple(self.things), tuple(self.holds)
+
+    def go_back(self, mark):
+        """Go back to where this was marked."""
+        self.stage, things, holds = mark
+        self.things = list(things)
+        self.holds = list(holds)
+
     def present(self):
         """What stands behind the present stage."""
         return self.states[self.stage]

@@ -5,6 +5,7 @@ the place at which what it looks at stands.
 """
 
 from remadeclasses.bounds import MOST_NEST, MOST_PARTS, MOST_ROWS, MOST_STAGES, MOST_STEPS
+from remadeclasses.errors import BadScript
 from remadeclasses.forms import is_offers, is_part, is_row, is_step, is_tuple_of, is_words
 
 
@@ -18,6 +19,14 @@ def script_error(value):
     if not is_offers(offers):
         return (1,), "offers"
     return stages_error(stages, (2,))
+
+
+def check_script(value):
+    """Refuse any value that is no script."""
+    wrong = script_error(value)
+    if wrong is not None:
+        place, why = wrong
+        raise BadScript(place, why)
 
 
 def stages_error(stages, place):

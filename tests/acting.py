@@ -101,6 +101,20 @@ S = (
     ),
 )
 
+S_TEXT = """words go
+offer man born make
+offer man greet call
+stage
+class man
+  born does { put name adam }
+  greet does { tell name }
+stage
+class man
+  born does { put title sir }
+  greet does { tell title }
+lead man
+"""
+
 # What the man of with_run is kin to: a part of each sort.
 KIN = klass("kin", "", does("act", ("say", "acted")), value("val", "valued"), looks("view", ("say", "seen")))
 

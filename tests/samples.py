@@ -70,6 +70,38 @@ RICH = (
     ),
 )
 
+RICH_TEXT = """words go stop
+offer a b call
+offer a b read
+offer a born call
+offer a born make
+offer a born read
+offer b a read
+offer jabcdefg born make
+offer man greet call
+stage
+class a
+  born does { put n w ; keep n ; drop n ; say w }
+  n value w
+  o looks { tell n ; do own n ; give up n }
+  p does { do past c n ; give base c n ; if has n { if is n w { do up n } { say w } ; say w ; say w ; say w }""" \
+    """ { keep n ; if kin c { } { give own n ; tell n } } ; if guest c { } { if told go { } { } } }
+class jabcdefg a a b
+class b a
+  n value jabcdefg
+part a n value w
+stage
+part a n does { if has n { if has n { do own n } { } } { tell n } ; give base c n }
+part a n looks { do past c n }
+cut a n
+forget b
+stage
+lead a
+rebase a b jabcdefg a
+fill a n w
+clear a n
+"""
+
 
 def exact(value):
     """A text that keeps apart what is equal to Python, such as 1 and True."""
