@@ -1,5 +1,6 @@
 """cases, each_case, case_way, is_safe and sure over all histories (point 10)."""
 
+import inspect
 import unittest
 
 from acting import NEXT, S, does, klass, looks, make, script_of, value
@@ -30,6 +31,7 @@ class FaultCase(unittest.TestCase):
         pairs = list(each_case(script))
         self.assertEqual(repr(tuple(case for case, _ in pairs)), repr(told))
         self.assertEqual(repr(list(each_case(script))), repr(pairs))
+        self.assertTrue(inspect.isgenerator(each_case(script)))
         for case, history in pairs:
             self.check_way(script, case, history)
             self.check_way(script, case, case_way(script, case))
